@@ -7,21 +7,24 @@ An item of an outcome is None as long as its name is not changed, so that
 from noneorsome.errors import ChangedTwice
 
 
+def check_unchanged(operand):
+    if isinstance(operand, (bool, str)):
+        raise ChangedTwice(operand)
+
+
 class Some:
     """A part of what is there, or more of it: at least one thing."""
 
     def __radd__(self, other):
+        check_unchanged(other)
         if other is None:
             return "add"
-        if isinstance(other, (bool, str)):
-            raise ChangedTwice(other)
         return NotImplemented
 
     def __rsub__(self, other):
+        check_unchanged(other)
         if other is None:
             return "take"
-        if isinstance(other, (bool, str)):
-            raise ChangedTwice(other)
         return NotImplemented
 
 
@@ -29,8 +32,7 @@ class All:
     """All that is there."""
 
     def __rsub__(self, other):
+        check_unchanged(other)
         if other is None:
             return "empty"
-        if isinstance(other, (bool, str)):
-            raise ChangedTwice(other)
         return NotImplemented
