@@ -11,9 +11,9 @@ def all_states(seen):
 
 def are_some_of(names, known):
     """Return whether names are among the known ones, each at most once."""
-    if len(set(names)) < len(names):
+    if not all([name in known for name in names]):
         return False
-    return all([name in known for name in names])
+    return len(set(names)) == len(names)
 
 
 def in_order(names, known):

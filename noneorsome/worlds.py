@@ -103,8 +103,8 @@ class World:
 
     def results(self, state, action):
         """Return all results of an action in a state as tuples `(index, gone, next)`."""
-        at = self.state_of(state)
-        outcomes = outcomes_of(self._possible_action(at, action))
+        at = self.state_for(state, action)
+        outcomes = outcomes_of(self._actions[action])
         return [
             (index, gone, state_behind(at, outcome, gone, self.seen()))
             for index, outcome in enumerate(outcomes)
@@ -127,19 +127,21 @@ class World:
 
     def outcome_at(self, state, action, index):
         """Return an outcome of an action that is possible in a state, with the errors of `shifts`."""
+        self.state_for(state, action)
+        return self._actions[action].outcome(index)
+
+    def state_for(self, state, action):
+        """Return a state in which an action is possible, with the errors of `results`."""
         at = self.state_of(state)
-        return self._possible_action(at, action).outcome(index)
+        if action not in self._actions:
+            raise UnknownAction(action)
+        if not self._can_be_done(at, action):
+            raise NotPossible(at, action)
+        return at
 
     def taken_piles(self, outcome):
         """Return the piles that an outcome takes from."""
         return [pile for pile in self._piles if outcome[pile] == "take"]
-
-    def _possible_action(self, at, name):
-        if name not in self._actions:
-            raise UnknownAction(name)
-        if not self._can_be_done(at, name):
-            raise NotPossible(at, name)
-        return self._actions[name]
 
     def _can_be_done(self, at, name):
         action = self._actions[name]
