@@ -6,19 +6,44 @@ from noneorsome.actions import Action
 from noneorsome.amounts import All, Some
 from noneorsome.condition_texts import read_condition
 from noneorsome.conditions import Condition
-from noneorsome.errors import BadAmount, BadChange, BadText, NotPossible
+from noneorsome.counterplays import Counterplay, counterplay_fault
+from noneorsome.errors import BadAmount, BadChange, BadText, Idle, NotPossible
+from noneorsome.judging import judge
+from noneorsome.matches import Match
+from noneorsome.measure_rows import falls, row_value
+from noneorsome.measures import measure_fault
 from noneorsome.outcomes import Outcome
+from noneorsome.plans import Plan
+from noneorsome.programs import Program
 from noneorsome.runs import Run
+from noneorsome.solving import solve, won_states
 from noneorsome.stocks import Stock
+from noneorsome.tasks import Task
 from noneorsome.worlds import World
 from tests.raising import RaisingCase
 
+HERE = Condition.of("here")
+OPEN = Condition.of("open")
+
+
+# The worlds of the tasks that the document reads from texts, made by hand.
+
 
 def carrying():
-    """The world of the task that the document reads from a text, made by hand."""
     world = World([], ["here"])
-    world["carry"] = Action(Condition.of("here"), [Outcome({"here": "take"})])
+    world["carry"] = Action(HERE, [Outcome({"here": "take"})])
     return world
+
+
+def stirring():
+    world = World([], ["here"])
+    world["stir"] = Action(HERE, [Outcome({"here": "take"}), Outcome({"here": "add"})])
+    return world
+
+
+def emptying(world):
+    """The task to come to where nothing is here."""
+    return Task(world, HERE, ~HERE)
 
 
 class Conditions(RaisingCase):
@@ -79,6 +104,74 @@ class Runs(RaisingCase):
     def test_an_amount_that_is_too_great(self):
         run = Run(carrying(), [], Stock({"here": 3}))
         self.assert_raises(BadAmount("here"), run.step, "carry", 0, {"here": 4})
+
+
+class Measures(unittest.TestCase):
+    def test_rows_that_fall_and_that_do_not(self):
+        self.assertEqual([
+            falls((1,), (0, "here", 0), [], []), falls((0, "here", 0), (0, "here", 5), ["here"], []),
+            falls((0, "here", 0), (0, "here", 0), [], []), falls((0, "here", 1), (0, "here", 0), [], ["here"]),
+        ], [True, True, False, False])
+
+    def test_the_value_of_a_row(self):
+        self.assertEqual(row_value((1, "here", 0), Stock({"here": 4})), [1, 4, 0])
+
+
+class Plans(unittest.TestCase):
+    def test_a_plan_without_rows(self):
+        task = emptying(carrying())
+        bad = judge(task, Plan(task.base()))
+        self.assertEqual([bad.reason, bad.state, bad.steps, bad.back], ["missing", ("here",), [], None])
+
+    def test_a_good_plan(self):
+        task = emptying(carrying())
+        plan = Plan(task.base())
+        plan[("here",)] = "carry"
+        self.assertIs(measure_fault(task, plan, judge(task, plan)), None)
+
+    def test_a_task_that_is_won(self):
+        solution = solve(emptying(carrying()))
+        self.assertEqual([solution.won, solution.plan.rows()], [True, [(("here",), "carry")]])
+
+    def test_a_task_that_is_lost(self):
+        task = emptying(stirring())
+        self.assertEqual([solve(task).won, won_states(task)], [False, [()]])
+
+
+class Counterplays(unittest.TestCase):
+    def test_faults(self):
+        task = emptying(stirring())
+        good = Counterplay([(("here",), {"here": 1}, {"stir": (1, (), 0)})])
+        bad = Counterplay([(("here",), {"here": 1}, {"stir": (0, (), 0)})])
+        faults = [
+            counterplay_fault(task, good), counterplay_fault(task, bad), counterplay_fault(task, bad, without=["stir"]),
+        ]
+        self.assertEqual(faults, [None, ("rise", 0, "stir", "here"), None])
+
+    def test_a_match(self):
+        match = Match(emptying(stirring()), Counterplay([(("here",), {"here": 1}, {"stir": (1, (), 0)})]))
+        first = match.answer("stir")
+        second = match.answer("stir")
+        found = [first, second, match.stock_now()["here"], match.position_now()]
+        self.assertEqual(found, [(1, {"here": 1}), (1, {"here": 1}), 3, 0])
+
+
+class Programs(RaisingCase):
+    def test_the_text_of_a_program(self):
+        program = Program.loop(HERE, Program.do("carry") >> Program.skip())
+        self.assertEqual(str(program * 2), "while here\n  do carry\nwhile here\n  do carry")
+
+    def test_places(self):
+        program = Program.loop(HERE, Program.do("carry"))
+        program = program >> Program.choose(OPEN, Program.skip(), Program.do("push"))
+        self.assertEqual(str(program), "while here\n  do carry\nif open\n  pass\nelse\n  do push")
+        found = [program.places(), program.entry(["here"]), program.entry([]), program.after(0, ["open"])]
+        self.assertEqual([*found, program.after(1, [])], [["carry", "push"], 0, 1, None, None])
+
+    def test_a_program_that_idles(self):
+        program = Program.loop(OPEN, Program.choose(HERE, Program.do("carry"), Program.skip()))
+        self.assertEqual(str(program), "while open\n  if here\n    do carry")
+        self.assert_raises(Idle(("open",)), program.entry, ("open",))
 
 
 if __name__ == "__main__":

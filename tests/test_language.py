@@ -13,7 +13,7 @@ BUILTINS = """len range enumerate zip min max sum abs sorted reversed int str bo
 any all divmod map super staticmethod property iter next NotImplemented ValueError TypeError KeyError""".split()
 METHODS = """append clear copy count endswith extend find get index insert isalnum isalpha isdigit islower isspace isupper
 items join keys ljust lower lstrip partition pop remove replace reverse rfind rjust rpartition rsplit rstrip setdefault
-split splitlines startswith strip update upper values zfill bit_length""".split()
+split splitlines startswith strip update upper values zfill bit_length add""".split()
 DUNDERS = """__init__ __eq__ __str__ __len__ __enter__ __exit__ __call__ __iter__ __lt__ __le__ __add__ __sub__ __mul__
 __and__ __or__ __rshift__ __radd__ __rsub__ __rmul__ __iadd__ __isub__ __ior__ __invert__ __contains__ __getitem__
 __setitem__""".split()
@@ -133,6 +133,9 @@ class Language(unittest.TestCase):
             if isinstance(node.ctx, ast.Store):
                 self.assertNotIn(node.attr, methods, place)
 
+    def test_a_set_is_added_to_by_no_method_of_its_own(self):
+        self.assertNotIn("add", own_methods())
+
     def test_an_index_has_its_iteration(self):
         for place, node in places(ast.ClassDef):
             names = [one.name for one in node.body if isinstance(one, ast.FunctionDef)]
@@ -146,7 +149,8 @@ class Language(unittest.TestCase):
                 keys = [one.value.id for one in node.keywords if one.arg == "key" and isinstance(one.value, ast.Name)]
                 first = node.args[0]
                 plain = isinstance(first, ast.Call) and isinstance(first.func, ast.Name) and first.func.id == "set"
-                self.assertTrue(plain or keys in (["str"], ["int"], ["len"]), place)
+                number = len(node.args) == 2 and isinstance(first, ast.Constant)
+                self.assertTrue(plain or number or keys in (["str"], ["int"], ["len"]), place)
 
     def test_strings(self):
         for place, node in places(ast.Constant):
