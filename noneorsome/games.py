@@ -66,9 +66,9 @@ def use_up(arena, counter, others):
     turn = Turn()
     lost = 0
     while True:
-        bits, answers = pulled(arena, lost, counter)
-        for place in answers:
-            turn.answers[place] = answers[place]
+        bits, found = pulled(arena, lost, counter)
+        for place in found:
+            turn.answers[place] = found[place]
         arena = without_pulled(arena, bits, counter)
         near, ways = forced(arena, 0, counter)
         plan, stand = play(without_forced(arena, near, counter), others)
