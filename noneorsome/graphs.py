@@ -5,6 +5,29 @@ counters and adds to others. `way` tells how it is done, and has no meaning here
 """
 
 
+def edges_along(node, action, ways):
+    """Return the edges from a node by the ways `(index, gone, behind, taken, added)` of an action, one of each kind."""
+    edges = {}
+    for index, gone, behind, taken, added in ways:
+        edges[(behind, taken, added)] = (node, behind, taken, added, (action, index, gone))
+    return list(edges.values())
+
+
+def graph_from(starts, edges_from):
+    """Return the nodes to which one comes from some nodes, and all edges from them, as a function tells them."""
+    nodes = {node: True for node in starts}
+    edges = []
+    fresh = list(nodes)
+    while len(fresh) > 0:
+        node = fresh.pop()
+        for edge in edges_from(node):
+            edges.append(edge)
+            if edge[1] not in nodes:
+                nodes[edge[1]] = True
+                fresh.append(edge[1])
+    return list(nodes), edges
+
+
 def follow_edges(nodes, edges):
     """Return a dict with the nodes behind each node."""
     behind = {node: {} for node in nodes}

@@ -1,10 +1,11 @@
 """Whether a plan is good, and runs which show that it is not ([18], [23], [24])."""
 
-from noneorsome.graphs import paths_from
-from noneorsome.measures import Measure
+from noneorsome.graphs import edges_along, graph_from, paths_from
+from noneorsome.measures import measure_of
 from noneorsome.sieves import sieve, way_round
 from noneorsome.tasks import check_world
 from noneorsome.walks import closes_ring, numbers_for, points_of
+from noneorsome.ways import ways_of
 
 
 class BadRun:
@@ -43,54 +44,39 @@ def judge(task, plan):
     """Return a measure that holds for a task and a plan, or a bad run."""
     check_world(task, plan)
     world = task.base()
+
+    def edges_from(state):
+        return edges_at(world, task.goal, plan, state)
+
     starts = [state for state in task.starts() if state not in task.goal]
-    nodes, edges = graph_of(world, task.goal, plan, starts)
+    nodes, edges = graph_from(starts, edges_from)
     missing = [state for state in nodes if state not in plan]
     if len(missing) > 0:
         path = paths_from(starts, edges)[missing[0]]
-        return run_along(world, "missing", missing[0], path, [])
+        return run_along(world, "missing", first_node(path, missing[0]), path, [])
     rows, ring = sieve(nodes, edges)
     if len(ring) > 0:
         path = paths_from(starts, edges)[ring[0][0]]
-        return run_along(world, "ring", ring[0][0], path, way_round(ring))
-    measure = Measure()
-    for state in rows:
-        measure[state] = rows[state]
-    return measure
-
-
-def graph_of(world, goal, plan, starts):
-    """Return the states to which runs of a plan come ahead of the goal, and the edges between them."""
-    nodes = {state: True for state in starts}
-    edges = []
-    fresh = list(nodes)
-    while len(fresh) > 0:
-        state = fresh.pop()
-        for edge in edges_at(world, goal, plan, state):
-            edges.append(edge)
-            if edge[1] not in nodes:
-                nodes[edge[1]] = True
-                fresh.append(edge[1])
-    return list(nodes), edges
+        return run_along(world, "ring", first_node(path, ring[0][0]), path, way_round(ring))
+    return measure_of(list(rows.items()))
 
 
 def edges_at(world, goal, plan, state):
-    """Return the edges from a state by the action of a plan, one of each kind, without those to the goal."""
+    """Return the edges from a state by the action of a plan, without those to the goal."""
     if state not in plan:
         return []
-    action = plan[state]
-    edges = {}
-    for index, gone, behind in world.results(state, action):
-        if behind not in goal:
-            taken, added = world.shifts(state, action, index)
-            edges[(behind, taken, added)] = (state, behind, taken, added, (action, index, gone))
-    return list(edges.values())
+    ways = ways_of(world, state, plan[state])
+    return edges_along(state, plan[state], [way for way in ways if way[2] not in goal])
 
 
-def run_along(world, reason, last, path, ring):
-    """Return a bad run along a path of edges to a state, and then along a ring of edges, if there is one."""
-    first = path[0][0] if len(path) > 0 else last
+def first_node(path, last):
+    """Return the node at which a path of edges to the last node begins."""
+    return path[0][0] if len(path) > 0 else last
+
+
+def run_along(world, reason, state, path, ring):
+    """Return a bad run from a state along a path of edges, and then along a ring of edges, if there is one."""
     back = len(path) if len(ring) > 0 else None
     ways = [edge[4] for edge in [*path, *ring]]
-    stock, steps = numbers_for(world, first, ways, back)
-    return BadRun(reason, first, stock, steps, back)
+    stock, steps = numbers_for(world, state, ways, back)
+    return BadRun(reason, state, stock, steps, back)

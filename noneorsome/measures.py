@@ -3,6 +3,7 @@
 from noneorsome.errors import BadRow, NoRow
 from noneorsome.measure_rows import falls, is_row
 from noneorsome.tasks import check_world
+from noneorsome.ways import ways_of
 
 
 class Measure:
@@ -35,11 +36,12 @@ class Measure:
         return len(self._rows)
 
 
-def copy_of_measure(measure):
-    twin = Measure()
-    for state, row in measure.rows():
-        twin[state] = row
-    return twin
+def measure_of(rows):
+    """Return the measure with these pairs of a state and a row."""
+    measure = Measure()
+    for state, row in rows:
+        measure[state] = row
+    return measure
 
 
 def measure_fault(task, plan, measure):
@@ -62,9 +64,7 @@ def fault_at(world, goal, plan, measure, state):
     """Return the first fault at a state that has a row in the measure, or None."""
     if state not in plan:
         return ("plan", state)
-    action = plan[state]
-    for index, gone, behind in world.results(state, action):
-        taken, added = world.shifts(state, action, index)
+    for index, gone, behind, taken, added in ways_of(world, state, plan[state]):
         if behind not in goal and not is_lower(measure, state, behind, taken, added):
             return ("result", state, index, gone)
     return None

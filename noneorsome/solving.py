@@ -4,7 +4,7 @@ from noneorsome.arenas import arena_of, forced, without_forced
 from noneorsome.counterplays import Counterplay
 from noneorsome.games import play
 from noneorsome.judging import judge
-from noneorsome.measures import copy_of_measure
+from noneorsome.measures import measure_of
 from noneorsome.plans import Plan
 from noneorsome.stances import counterplay_from
 
@@ -26,7 +26,7 @@ class Won(Solution):
     def __init__(self, plan, measure):
         super().__init__(True)
         self.plan = plan.copy()
-        self.measure = copy_of_measure(measure)
+        self.measure = measure_of(measure.rows())
 
 
 class Lost(Solution):

@@ -21,11 +21,11 @@ def in_order(names, known):
     return tuple([name for name in known if name in names])
 
 
-def all_subsets(piles):
+def all_subsets(names):
     """Return all subsets in ascending order, compared position by position."""
     subsets = [()]
-    for pile in piles[::-1]:
-        subsets = [(), *[(pile, *subset) for subset in subsets], *subsets[1:]]
+    for name in names[::-1]:
+        subsets = [(), *[(name, *subset) for subset in subsets], *subsets[1:]]
     return subsets
 
 

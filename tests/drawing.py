@@ -7,6 +7,7 @@ from noneorsome.conditions import Condition
 from noneorsome.errors import NoFreeOutcome
 from noneorsome.outcomes import Outcome
 from noneorsome.plans import Plan
+from noneorsome.programs import Program
 from noneorsome.tasks import Task
 from noneorsome.worlds import World
 
@@ -79,3 +80,40 @@ def draw_plan(seed, task):
         if possible and chance.random() < 0.95:
             plan[state] = chance.choice(possible)
     return plan
+
+
+def draw_part(chance, names, seen, depth):
+    """A part of a program, nested at most so deep, with few actions."""
+    kind = chance.choice(["do", "do", "do", "then", "loop", "choose", "skip"] if depth else ["do"])
+    if kind == "skip":
+        return Program.skip()
+    if kind == "do":
+        return Program.do(chance.choice(names))
+    condition = draw_condition(chance, seen)
+    one = draw_part(chance, names, seen, depth - 1)
+    if kind == "loop":
+        return Program.loop(condition, one)
+    other = draw_part(chance, names, seen, depth - 1)
+    return one >> other if kind == "then" else Program.choose(condition, one, other)
+
+
+def draw_program(seed, task):
+    """A program of 12 actions at most, which as a rule goes on until the goal holds and does what is possible."""
+    chance = random.Random(seed)
+    world = task.base()
+    program = Program.skip()
+    for _ in range(chance.randint(0, 4)):
+        part = draw_part(chance, world.actions(), world.seen(), 3)
+        if len(program.places()) + len(part.places()) <= 9:
+            program = program >> part
+    if chance.random() < 0.5:
+        for name in chance.sample(world.actions(), min(2, len(world))):
+            taken = [
+                pile for index in range(len(world[name])) for pile in world.piles() if world[name].outcome(index)[pile] == "take"
+            ]
+            need = world[name].need
+            for pile in taken:
+                need = need & Condition.of(pile)
+            program = Program.choose(need, Program.do(name), program)
+    until = chance.choice([~task.goal, ~task.goal, Condition.always(), None])
+    return program if until is None else Program.loop(until, program)

@@ -4,26 +4,29 @@ import unittest
 
 from noneorsome.actions import Action
 from noneorsome.amounts import All, Some
+from noneorsome.checking import check, program_fault
 from noneorsome.condition_texts import read_condition
 from noneorsome.conditions import Condition
 from noneorsome.counterplays import Counterplay, counterplay_fault
-from noneorsome.errors import BadAmount, BadChange, BadText, Idle, NotPossible
+from noneorsome.errors import BadAmount, BadChange, BadLine, BadText, Idle, NotPossible
 from noneorsome.judging import judge
 from noneorsome.matches import Match
 from noneorsome.measure_rows import falls, row_value
 from noneorsome.measures import measure_fault
+from noneorsome.needs import least_actions
 from noneorsome.outcomes import Outcome
 from noneorsome.plans import Plan
+from noneorsome.program_texts import read_program
 from noneorsome.programs import Program
 from noneorsome.runs import Run
 from noneorsome.solving import solve, won_states
 from noneorsome.stocks import Stock
 from noneorsome.tasks import Task
+from noneorsome.turning import plan_of
 from noneorsome.worlds import World
 from tests.raising import RaisingCase
 
 HERE = Condition.of("here")
-OPEN = Condition.of("open")
 
 
 # The worlds of the tasks that the document reads from texts, made by hand.
@@ -39,6 +42,14 @@ def stirring():
     world = World([], ["here"])
     world["stir"] = Action(HERE, [Outcome({"here": "take"}), Outcome({"here": "add"})])
     return world
+
+
+def waiting():
+    world = World(["open"], ["here"])
+    world["wait"] = Action(Condition.always(), [Outcome()])
+    world["carry"] = Action(HERE, [Outcome({"here": "take"})])
+    world["clear"] = Action(HERE, [Outcome({"here": "empty"})])
+    return Task(world, Condition.always(), ~HERE)
 
 
 def emptying(world):
@@ -162,16 +173,33 @@ class Programs(RaisingCase):
         self.assertEqual(str(program * 2), "while here\n  do carry\nwhile here\n  do carry")
 
     def test_places(self):
-        program = Program.loop(HERE, Program.do("carry"))
-        program = program >> Program.choose(OPEN, Program.skip(), Program.do("push"))
-        self.assertEqual(str(program), "while here\n  do carry\nif open\n  pass\nelse\n  do push")
+        program = read_program("while here\n  do carry\nif open\n  pass\nelse\n  do push")
         found = [program.places(), program.entry(["here"]), program.entry([]), program.after(0, ["open"])]
         self.assertEqual([*found, program.after(1, [])], [["carry", "push"], 0, 1, None, None])
 
+    def test_a_loop_without_a_body(self):
+        self.assert_raises(BadLine(1), read_program, "while here\ndo carry")
+
     def test_a_program_that_idles(self):
-        program = Program.loop(OPEN, Program.choose(HERE, Program.do("carry"), Program.skip()))
-        self.assertEqual(str(program), "while open\n  if here\n    do carry")
+        program = read_program("while open\n  if here\n    do carry")
         self.assert_raises(Idle(("open",)), program.entry, ("open",))
+
+    def test_a_program_that_is_right(self):
+        task = emptying(carrying())
+        program = read_program("while here\n  do carry")
+        self.assertIs(program_fault(task, program, check(task, program)), None)
+
+    def test_a_program_that_ends_too_early(self):
+        self.assertEqual(check(emptying(carrying()), read_program("do carry")).reason, "unfinished")
+
+    def test_the_plan_of_a_program(self):
+        plan = plan_of(waiting(), read_program("if here\n  do clear\nelse\n  do wait"))
+        self.assertEqual(plan.rows(), [((), "wait"), (("here",), "clear"), (("open",), "wait"), (("open", "here"), "clear")])
+
+
+class LeastSets(unittest.TestCase):
+    def test_least_actions(self):
+        self.assertEqual(least_actions(waiting()), [("carry",), ("clear",)])
 
 
 if __name__ == "__main__":

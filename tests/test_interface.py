@@ -40,7 +40,10 @@ FUNCTIONS = [
     "measure_rows.row_value(row, stock)", "measures.measure_fault(task, plan, measure)",
     "judging.is_bad_run(task, plan, run)", "judging.judge(task, plan)",
     "counterplays.counterplay_fault(task, counterplay, *, without=())", "solving.solve(task, *, without=())",
-    "solving.won_states(task, *, without=())",
+    "solving.won_states(task, *, without=())", "program_texts.read_program(text)",
+    "checking.program_fault(task, program, measure)", "checking.is_bad_program_run(task, program, run)",
+    "checking.check(task, program)", "turning.program_of(task, plan)", "turning.plan_of(task, program)",
+    "needs.least_actions(task)",
 ]
 SIGNS = """add and call contains eq getitem iadd init invert ior isub le len lt mul or radd rmul rshift rsub setitem str
 sub""".split()

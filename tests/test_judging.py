@@ -15,6 +15,7 @@ from noneorsome.stocks import Stock
 from noneorsome.tasks import Task
 from noneorsome.worlds import World
 from tests.drawing import draw_plan, draw_task
+from tests.numbered import change_run, is_closed, points_by_hand
 from tests.raising import RaisingCase
 
 ALWAYS = Condition.always()
@@ -313,78 +314,17 @@ class Rings(unittest.TestCase):
 
 def shows(task, plan, run):
     """What [23] tells, by plain dicts: a run of a plan that ends without a row, or goes round."""
-    world = task.base()
-    facts = {name for name in run.state if name in world.facts()}
-    numbers = {name: run.stock[name] for name in world.counters()}
-    points = [(seen_now(world, facts, numbers), dict(numbers))]
-    if points[0][0] != run.state or run.state not in task.start:
+    points = points_by_hand(task.base(), run)
+    if points is None or run.state not in task.start:
         return False
-    for action, index, amounts in run.steps:
-        state = points[-1][0]
-        if (state, action) not in plan.rows() or not 0 <= index < len(world[action]):
+    for (state, _), (action, _, _) in zip(points, run.steps):
+        if (state, action) not in plan.rows():
             return False
-        outcome = world[action].outcome(index)
-        if set(amounts) != {name for name in outcome.names() if outcome[name] in ("take", "add")}:
-            return False
-        for name in outcome.names():
-            if outcome[name] == "empty":
-                numbers[name] = 0
-            elif outcome[name] == "add":
-                if amounts[name] is None or amounts[name] < 1:
-                    return False
-                numbers[name] += amounts[name]
-            elif outcome[name] == "take":
-                amount = numbers[name] if amounts[name] is None else amounts[name]
-                used_up = amount == numbers[name] and amounts[name] is not None and name in world.piles()
-                if not 1 <= amount <= numbers[name] or used_up:
-                    return False
-                numbers[name] -= amount
-            else:
-                facts = facts | {name} if outcome[name] else facts - {name}
-        points.append((seen_now(world, facts, numbers), dict(numbers)))
     if any(state in task.goal for state, _ in points):
         return False
     if run.reason == "missing":
         return run.back is None and points[-1][0] not in dict(plan.rows())
-    if run.reason != "ring" or run.back is None or not 0 <= run.back < len(run.steps):
-        return False
-    (state, before), (last, behind) = points[run.back], points[-1]
-    return state == last and all(before[name] <= behind[name] for name in before)
-
-
-def seen_now(world, facts, numbers):
-    return tuple(name for name in world.seen() if name in facts or numbers.get(name, 0) > 0)
-
-
-def change_run(chance, world, run):
-    """A run in which one part is another one."""
-    parts = {"reason": run.reason, "state": run.state, "stock": run.stock, "steps": run.steps, "back": run.back}
-    part = chance.choice(["reason", "state", "stock", "back", "fewer", "index", "action", "amount", "amount", "amount"])
-    at = chance.randrange(len(run.steps)) if run.steps else 0
-    if part == "reason":
-        parts["reason"] = chance.choice(["missing", "ring", "idle"])
-    elif part == "state":
-        parts["state"] = chance.choice(world.states())
-    elif part == "back":
-        parts["back"] = chance.choice([None, *range(-1, len(run.steps) + 2)])
-    elif part == "stock":
-        stock = run.stock.copy()
-        if world.counters():
-            stock[chance.choice(world.counters())] = chance.choice([0, 1, 2, 100])
-        parts["stock"] = stock
-    elif run.steps:
-        action, index, amounts = run.steps[at]
-        amounts = dict(amounts)
-        if part == "index":
-            index = chance.randint(-1, 4)
-        elif part == "action":
-            action = chance.choice(world.actions())
-        elif part == "amount" and world.counters():
-            amounts[chance.choice(world.counters())] = chance.choice([None, 0, 1, 2, 50])
-        steps = list(run.steps)
-        steps[at:at + 1] = [] if part == "fewer" else [(action, index, amounts)]
-        parts["steps"] = steps
-    return BadRun(**parts)
+    return run.reason == "ring" and is_closed(points, run.back)
 
 
 class Changed(unittest.TestCase):
@@ -398,7 +338,7 @@ class Changed(unittest.TestCase):
             if isinstance(told, BadRun):
                 self.assertTrue(shows(task, plan, told))
                 for _ in range(12):
-                    run = change_run(chance, task.base(), told)
+                    run = change_run(chance, task.base(), told, ["missing", "ring", "idle"])
                     expected = shows(task, plan, run)
                     self.assertIs(is_bad_run(task, plan, run), expected, vars(run))
                     found[expected] += 1
