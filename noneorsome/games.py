@@ -24,7 +24,7 @@ class Turn:
 
     def __init__(self):
         self.answers = {}
-        self.stands = {}
+        self.inner = {}
 
 
 def play(arena, counters):
@@ -75,7 +75,7 @@ def use_up(arena, counter, others):
         if len(stand.arena) == 0:
             return {**ways, **plan}, turn
         for state in stand.arena:
-            turn.stands[state] = stand
+            turn.inner[state] = stand
         lost = set_of(list(stand.arena))
 
 
@@ -91,7 +91,7 @@ def reply(stand, state, action, memory):
     number = memory[0] if len(memory) > 0 else 0
     turn = stand.turns[number]
     if (state, action) not in turn.answers:
-        index, end, rest = reply(turn.stands[state], state, action, memory[1:])
+        index, end, rest = reply(turn.inner[state], state, action, memory[1:])
         return index, end, packed(number, rest)
     index, end, added = turn.answers[(state, action)]
     if added:

@@ -34,6 +34,10 @@ CLASSES = {
     "solving.Lost": ["init(counterplay)"],
     "programs.Program": ["skip()", "do(action)", "loop(condition, body)", "choose(condition, body, other)", "places()",
                          "entry(state)", "after(place, state)", "rshift", "mul", "rmul", "eq", "str"],
+    "keepers.Keeper": ["init(task)", "put(name, action)", "drop(name)", "aim(start, goal)", "keep(plan)", "forget()", "undo()",
+                       "redo()", "history()", "task_now()", "kept()", "stands()", "solution()", "won_now()", "attempt(edits)",
+                       "trial()", "copy()", "eq"],
+    "keepers.Trial": ["init(keeper)", "enter()", "exit(kind, value, trace)"],
 }
 FUNCTIONS = [
     "condition_texts.read_condition(text)", "measure_rows.is_row(value)", "measure_rows.falls(one, other, taken, added)",
@@ -43,9 +47,11 @@ FUNCTIONS = [
     "solving.won_states(task, *, without=())", "program_texts.read_program(text)",
     "checking.program_fault(task, program, measure)", "checking.is_bad_program_run(task, program, run)",
     "checking.check(task, program)", "turning.program_of(task, plan)", "turning.plan_of(task, program)",
-    "needs.least_actions(task)",
+    "needs.least_actions(task)", "looks.parted(plan, names)", "looks.least_looks(plan)",
+    "fairness.fair(world, action, index, reserve)", "task_texts.write_task(task)", "task_texts.read_task(text)",
+    "plan_texts.write_plan(plan)", "plan_texts.read_plan(world, text)",
 ]
-SIGNS = """add and call contains eq getitem iadd init invert ior isub le len lt mul or radd rmul rshift rsub setitem str
+SIGNS = """add and call contains enter eq exit getitem iadd init invert ior isub le len lt mul or radd rmul rshift rsub setitem str
 sub""".split()
 
 
