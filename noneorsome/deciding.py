@@ -4,13 +4,13 @@ from noneorsome.conditions import Condition
 
 
 def condition_for(seen, states):
-    """Return a condition that holds for just these states of some seen names."""
+    """Return a condition on some seen names that holds for just these states, which differ in no other names."""
     if len(states) == 0:
         return Condition.never()
     if len(states) == 1 << len(seen):
         return Condition.always()
     name = seen[0]
-    held = condition_for(seen[1:], [state[1:] for state in states if name in state])
+    held = condition_for(seen[1:], [state for state in states if name in state])
     free = condition_for(seen[1:], [state for state in states if name not in state])
     if held == free:
         return held

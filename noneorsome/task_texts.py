@@ -54,7 +54,6 @@ def read_task(text):
 
 def world_of(lines):
     """Return the world of the first lines, which has no actions yet."""
-    world = World()
     given = []
     for at, word in enumerate(LISTS):
         words = line_at(lines, at).split(" ")

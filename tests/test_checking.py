@@ -296,6 +296,9 @@ class Unfinished(unittest.TestCase):
         for reason in ["ring", "idle", "impossible", "missing", "", "Unfinished"]:
             self.assertIs(self.ask(reason=reason), False)
             self.assertIs(self.ask(reason=reason, back=0), False)
+        self.task.set_goal(~HERE)
+        for reason in ["unfinished", "", "None", None]:
+            self.assertIs(self.ask(reason=reason), False)
 
     def test_back(self):
         for back in [0, 1, 2, -1]:

@@ -46,6 +46,9 @@ class Right(ReadingCase):
     def test_nothing_to_do(self):
         self.check(SKIP, "pass")
         self.assertEqual(read_program(text="pass").places(), [])
+        for program in [read_program("pass") >> CARRY, CARRY >> read_program("pass")]:
+            self.assertEqual(str(program), "do carry")
+        self.assertEqual(str(Program.choose(HERE, CARRY, read_program("pass"))), "if here\n  do carry")
 
     def test_loops(self):
         self.check(Program.loop(HERE, CARRY), "while here", "  do carry")
